@@ -1,0 +1,1 @@
+"""Where words may be broken, told by patterns of letters with numbers."""
