@@ -1,5 +1,12 @@
 """What several tests need."""
 
+import itertools
+import random
+
+from breakwords.patterns import is_pattern, read_pattern
+from breakwords.views import first_view, last_pairs, next_views
+from breakwords.words import is_word
+
 ALL_SIGNS = [chr(code) for code in range(ord(" "), ord("~") + 1)]
 SMALL_LETTERS = "abcdefghijklmnopqrstuvwxyz"
 
@@ -11,3 +18,104 @@ def place_by_form(form, text):
         if not form.fullmatch(beginning) and not form.fullmatch(beginning + "a"):
             return place
     return len(text)
+
+
+def listed(texts):
+    return [read_pattern(text) for text in texts.split()]
+
+
+def plain_values(patterns, word):
+    framed = "." + word + "."
+    told = []
+    for gap in range(1, len(word)):
+        numbers = [0]
+        for signs, all_numbers in patterns:
+            for ahead, number in enumerate(all_numbers):
+                begin = gap + 1 - ahead
+                if begin >= 0 and framed[begin:begin + len(signs)] == signs:
+                    numbers.append(number)
+        told.append(max(numbers))
+    return told
+
+
+def plain_breaks(patterns, word):
+    return [value % 2 == 1 for value in plain_values(patterns, word)]
+
+
+def drawn_pattern(draw, letters, most_signs, most_number):
+    while True:
+        count = draw.randint(1, most_signs)
+        signs = draw.choice(("", "", ".")) + "".join(draw.choice(letters) for _at in range(count))
+        signs = (signs + draw.choice(("", "", ".")))[:most_signs]
+        numbers = [draw.choice((0, draw.randint(0, most_number))) for _at in range(len(signs) + 1)]
+        if signs.startswith("."):
+            numbers[0] = 0
+        if signs.endswith("."):
+            numbers[-1] = 0
+        if is_pattern((signs, tuple(numbers))):
+            return (signs, tuple(numbers))
+
+
+def drawn_patterns(seed, count, letters, most_signs, most_number=9):
+    # The seed alone tells what is drawn, so that each run tests the same.
+    draw = random.Random(seed)
+    return [drawn_pattern(draw, letters, most_signs, most_number) for _at in range(count)]
+
+
+def drawn_word(seed, letters, length):
+    draw = random.Random(seed)
+    return "".join(draw.choice(letters) for _at in range(length))
+
+
+def letters_of(patterns):
+    # Those that stand in the patterns, and the first one that stands in none.
+    standing = [letter for letter in SMALL_LETTERS if any(letter in signs for signs, _numbers in patterns)]
+    return standing + [letter for letter in SMALL_LETTERS if letter not in standing][:1]
+
+
+def check_told(test, one, other, told):
+    """Holds what is told of two lists to what a word, or views, must show."""
+    test.assertIs(type(told), tuple)
+    test.assertEqual(len(told), 2)
+    if told[0] == "word":
+        test.assertIs(is_word(told[1]), True)
+        test.assertNotEqual(plain_breaks(one, told[1]), plain_breaks(other, told[1]), (one, other, told))
+        return
+    test.assertEqual(told[0], "same")
+    check_views(test, one, other, told[1])
+    check_short_words(test, one, other)
+
+
+def reached_views(one, other):
+    # The views that come from the first one, by walking on from each that is new.
+    reached = [first_view(one, other)]
+    known = set(reached)
+    for view in reached:
+        for letter in letters_of(one + other):
+            for later in next_views(one, other, view, letter)[0]:
+                if later not in known:
+                    known.add(later)
+                    reached.append(later)
+    return known
+
+
+def check_views(test, one, other, views):
+    test.assertIs(type(views), list)
+    known = set(views)
+    test.assertEqual(len(known), len(views))
+    # None that does not come from the first one, and closed under the letters.
+    test.assertEqual(known, reached_views(one, other))
+    for view in views:
+        pairs = last_pairs(one, other, view)
+        for letter in letters_of(one + other):
+            pairs += next_views(one, other, view, letter)[1]
+        for ones, others in pairs:
+            test.assertEqual(ones % 2, others % 2, (one, other, view))
+
+
+def check_short_words(test, one, other):
+    letters = letters_of(one + other)
+    most = 5 if len(letters) < 4 else 3 if len(letters) < 8 else 2
+    for length in range(1, most + 1):
+        for word in itertools.product(letters, repeat=length):
+            test.assertEqual(plain_breaks(one, "".join(word)), plain_breaks(other, "".join(word)), word)

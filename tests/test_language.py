@@ -28,6 +28,13 @@ METHODS = """
     split splitlines startswith strip update upper values zfill bit_length __init__
 """.split()
 
+WALKED_AT_ONCE = ["zip", "enumerate", "reversed", "range"]
+WALKERS = ["list", "tuple", "dict", "sorted", "sum", "any", "all", "enumerate", "zip", "min", "max"]
+WALKED_METHODS = ["items", "keys", "values"]
+
+# What an object may keep under a name that Python's own values have, too.
+SHARED_VALUE_NAMES = "count index title find get join lower upper split strip copy add".split()
+
 DUNDER_METHODS = ["__init__", "__eq__", "__repr__", "__str__", "__len__"]
 
 WORDS_NOWHERE = re.compile(
@@ -54,6 +61,32 @@ def own_methods():
         for node in ast.walk(ast.parse(text)) if isinstance(node, ast.ClassDef)
         for inner in node.body if isinstance(inner, ast.FunctionDef)
     ]
+
+
+def own_values():
+    return [
+        node.attr
+        for _path, text in sources()
+        for node in ast.walk(ast.parse(text)) if isinstance(node, ast.Attribute) and isinstance(node.ctx, ast.Store)
+    ]
+
+
+def is_walk(node):
+    if not isinstance(node, ast.Call):
+        return False
+    if isinstance(node.func, ast.Name):
+        return node.func.id in WALKED_AT_ONCE
+    return isinstance(node.func, ast.Attribute) and node.func.attr in WALKED_METHODS
+
+
+def walked_on_the_spot(tree):
+    spots = []
+    for node in ast.walk(tree):
+        if isinstance(node, (ast.For, ast.comprehension)):
+            spots.append(node.iter)
+        if isinstance(node, ast.Call) and isinstance(node.func, ast.Name) and node.func.id in WALKERS:
+            spots.extend(node.args if node.func.id == "zip" else node.args[:1])
+    return spots
 
 
 def drawn_from(tree):
@@ -137,6 +170,30 @@ class Language(unittest.TestCase):
         for node in ast.walk(tree):
             if isinstance(node, ast.Call) and isinstance(node.func, ast.Attribute):
                 self.assertIn(node.func.attr, known)
+
+    def test_values_of_objects(self):
+        shared = [name for kind in (str, int, list, tuple, dict, set, bytes) for name in dir(kind)]
+        for name in own_values():
+            self.assertTrue(name not in shared or name in SHARED_VALUE_NAMES, name)
+            self.assertNotIn(name, own_methods())
+
+    def test_what_is_walked_is_walked_on_the_spot(self):
+        self.for_each_file(self.check_what_is_walked_is_walked_on_the_spot)
+
+    def check_what_is_walked_is_walked_on_the_spot(self, _path, _text, tree):
+        spots = walked_on_the_spot(tree)
+        for node in ast.walk(tree):
+            if is_walk(node):
+                self.assertIn(node, spots, node.lineno)
+
+    def test_is_stands_beside_none_and_truths_alone(self):
+        self.for_each_file(self.check_is_stands_beside_none_and_truths_alone)
+
+    def check_is_stands_beside_none_and_truths_alone(self, _path, _text, tree):
+        for node in ast.walk(tree):
+            if isinstance(node, ast.Compare) and any(isinstance(op, (ast.Is, ast.IsNot)) for op in node.ops):
+                self.assertIsInstance(node.comparators[0], ast.Constant)
+                self.assertIn(node.comparators[0].value, (None, True, False))
 
     def test_each_name_is_drawn_from_the_file_that_defines_it(self):
         self.for_each_file(self.check_each_name_is_drawn_from_the_file_that_defines_it)

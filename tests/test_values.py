@@ -4,26 +4,9 @@ import unittest
 
 from breakwords.patterns import is_pattern, read_pattern
 from breakwords.values import breaks, values
+from tests.helper import listed, plain_values
 
 TWENTY = "abcdefghijklmnopqrst"
-
-
-def listed(texts):
-    return [read_pattern(text) for text in texts.split()]
-
-
-def plain_values(patterns, word):
-    framed = "." + word + "."
-    told = []
-    for gap in range(1, len(word)):
-        numbers = [0]
-        for signs, all_numbers in patterns:
-            for ahead, number in enumerate(all_numbers):
-                begin = gap + 1 - ahead
-                if begin >= 0 and framed[begin:begin + len(signs)] == signs:
-                    numbers.append(number)
-        told.append(max(numbers))
-    return told
 
 
 class Values(unittest.TestCase):
