@@ -5,7 +5,7 @@ import random
 
 from breakwords.patterns import is_pattern, read_pattern
 from breakwords.views import first_view, last_pairs, next_views
-from breakwords.words import is_word
+from breakwords.words import is_word, read_broken
 
 ALL_SIGNS = [chr(code) for code in range(ord(" "), ord("~") + 1)]
 SMALL_LETTERS = "abcdefghijklmnopqrstuvwxyz"
@@ -22,6 +22,10 @@ def place_by_form(form, text):
 
 def listed(texts):
     return [read_pattern(text) for text in texts.split()]
+
+
+def listed_words(texts):
+    return [read_broken(text) for text in texts.split()]
 
 
 def plain_values(patterns, word):
@@ -65,6 +69,54 @@ def drawn_patterns(seed, count, letters, most_signs, most_number=9):
 def drawn_word(seed, letters, length):
     draw = random.Random(seed)
     return "".join(draw.choice(letters) for _at in range(length))
+
+
+def drawn_words(seed, count, letters, most):
+    draw = random.Random(seed)
+    words = {}
+    while len(words) < count:
+        word = "".join(draw.choice(letters) for _at in range(draw.randint(1, most)))
+        words.setdefault(word, tuple(gap for gap in range(1, len(word)) if draw.randint(0, 2) == 0))
+    return list(words.items())
+
+
+def plain_gaps(patterns, word):
+    return tuple(gap for gap, broken in enumerate(plain_breaks(patterns, word), start=1) if broken)
+
+
+def plain_learnt_at(words, patterns, number, length, cost):
+    # Each run of signs with the number at each of its places, weighed at each gap of each word by itself.
+    learnt = []
+    broken = {word: plain_gaps(patterns, word) for word, _gaps in words}
+    runs = {("." + word + ".")[at:at + length] for word, _gaps in words for at in range(len(word) + 3 - length)}
+    for signs in runs:
+        for ahead in range(length + 1):
+            candidate = (signs, tuple(number if place == ahead else 0 for place in range(length + 1)))
+            if is_pattern(candidate) and is_learnt(words, broken, candidate, number, cost):
+                learnt.append(candidate)
+    return sorted(learnt)
+
+
+def is_learnt(words, broken, candidate, number, cost):
+    good, bad = 0, 0
+    for word, gaps in words:
+        for gap, value in enumerate(plain_values([candidate], word), start=1):
+            if value == 0:
+                continue
+            if number % 2 == 1:
+                good += gap in gaps and gap not in broken[word]
+                bad += gap not in gaps and gap not in broken[word]
+            else:
+                good += gap not in gaps and gap in broken[word]
+                bad += gap in gaps and gap in broken[word]
+    return good > 0 and (bad == 0 if cost is None else bad * cost <= good)
+
+
+def plain_level(words, patterns, number, most, cost):
+    learnt = []
+    for length in range(1, most + 1):
+        learnt = learnt + plain_learnt_at(words, patterns + learnt, number, length, cost)
+    return learnt
 
 
 def letters_of(patterns):
