@@ -29,3 +29,13 @@ class Breaker:
 
     def shown(self, word):
         return shown_broken((word, self.gaps(word)))
+
+
+def with_patterns(breaker, patterns):
+    return Breaker(patterns, list(breaker.told_gaps.items()), breaker.head, breaker.tail)
+
+
+def with_told(breaker, broken):
+    known = dict(breaker.told_gaps)
+    known[broken[0]] = broken[1]
+    return Breaker(breaker.patterns, list(known.items()), breaker.head, breaker.tail)

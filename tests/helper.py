@@ -3,6 +3,7 @@
 import itertools
 import random
 
+from breakwords.errors import WordError
 from breakwords.patterns import is_pattern, read_pattern
 from breakwords.views import first_view, last_pairs, next_views
 from breakwords.words import is_word, read_broken
@@ -18,6 +19,14 @@ def place_by_form(form, text):
         if not form.fullmatch(beginning) and not form.fullmatch(beginning + "a"):
             return place
     return len(text)
+
+
+def told_or_refused(deed, *given):
+    # What is told; or, of a refusal, its class and its field.
+    try:
+        return deed(*given)
+    except WordError as refusal:
+        return (type(refusal),) + tuple(vars(refusal).values())
 
 
 def listed(texts):
@@ -82,6 +91,54 @@ def drawn_words(seed, count, letters, most):
 
 def plain_gaps(patterns, word):
     return tuple(gap for gap, broken in enumerate(plain_breaks(patterns, word), start=1) if broken)
+
+
+def plain_broken(breaker, word):
+    # The breaker as a tuple (patterns, told, head, tail), told a dict.
+    patterns, told, head, tail = breaker
+    if word in told:
+        return told[word]
+    return tuple(gap for gap in plain_gaps(patterns, word) if gap >= head and len(word) - gap >= tail)
+
+
+def possible_lines(words, begin, width):
+    # Each line that goes into the width, by where the next one begins: a word's number, and its letters set so far.
+    number, done = begin
+    lines = {}
+    line = ""
+    while number < len(words):
+        word, mark, gaps = words[number]
+        lines.update({(number, gap): line + word[done:gap] + "-" for gap in gaps if gap > done})
+        line = line + word[done:] + mark
+        number, done = number + 1, 0
+        lines[(number, done)] = line
+        line = line + " "
+    return {end: line for end, line in lines.items() if len(line) <= width}
+
+
+def plain_lines(words, width):
+    # The lines that go farthest; or the number of the word of which a line can hold nothing.
+    lines = []
+    begin = (0, 0)
+    while begin != (len(words), 0):
+        possible = possible_lines(words, begin, width)
+        if not possible:
+            return begin[0]
+        begin = max(possible)
+        lines.append(possible[begin])
+    return lines
+
+
+def fewest_lines(words, width):
+    # Of all ways to set the words; None where there is none.
+    begins = {(0, 0)}
+    known = set(begins)
+    count = 0
+    while begins and (len(words), 0) not in begins:
+        begins = {end for begin in begins for end in possible_lines(words, begin, width)} - known
+        known |= begins
+        count += 1
+    return count if begins else None
 
 
 def plain_learnt_at(words, patterns, number, length, cost):
